@@ -1,0 +1,1 @@
+"""Rimsteps: pictures told by the steps round their rims."""

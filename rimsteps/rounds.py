@@ -1,0 +1,69 @@
+"""The rounds of a picture, and its holes."""
+
+from rimsteps.cells import STRAIGHT_STEPS, ask_picture, cell_order, cell_table, gone, lot_from
+from rimsteps.edges import all_edges, edge_behind, is_slant, step_behind
+
+BEGIN_WAYS = {"rim": 0, "hole": 2}
+
+
+def walk_from(table, begin):
+    """The walk round from this edge on: a list of pairs, each an edge and the step behind it (None: a left turn)."""
+    step = step_behind(table, begin)
+    walk = [(begin, step)]
+    edge = edge_behind(begin, step)
+    while edge != begin:
+        step = step_behind(table, edge)
+        walk.append((edge, step))
+        edge = edge_behind(edge, step)
+    return walk
+
+
+def sort_of(walk):
+    """Of which sort the round of this walk is: a rim has more left turns than slant steps, a hole's round fewer."""
+    lefts = len([step for edge, step in walk if step is None])
+    slants = len([step for edge, step in walk if is_slant(step)])
+    return "rim" if lefts > slants else "hole"
+
+
+def begin_of(walk, sort):
+    """The edge of this walk at which a round of this sort begins."""
+    return min([edge for edge, step in walk if edge[2] == BEGIN_WAYS[sort]], key=cell_order)
+
+
+def round_of(walk):
+    """The round of this walk, whichever of its edges the walk begins at."""
+    sort = sort_of(walk)
+    begin = begin_of(walk, sort)
+    at = [edge for edge, step in walk].index(begin)
+    row = tuple([step for edge, step in walk[at:] + walk[:at] if step is not None])
+    return (sort, begin[0], begin[1], row)
+
+
+def round_order(one):
+    """What to sort rounds by: their begin cells, of one begin cell the rim first."""
+    sort, x, y, row = one
+    return (y, x, sort == "hole")
+
+
+def rounds(picture):
+    """The rounds of the picture, in order; or NoPicture."""
+    ask_picture(picture)
+    table = cell_table(picture)
+    walked = {}
+    told = []
+    for begin in all_edges(picture):
+        if begin not in walked:
+            walk = walk_from(table, begin)
+            for edge, step in walk:
+                walked[edge] = True
+            told.append(round_of(walk))
+    return sorted(told, key=round_order)
+
+
+def holes(picture):
+    """The holes of the picture, each a list of gaps in order, by their first gaps; or NoPicture."""
+    # A hole's first gap lies above the begin cell of its round, so the holes come in the order of their rounds.
+    # The rounds lead to the holes however far apart the cells lie, and never to the outside, which has no end.
+    firsts = [gone(x, y, 2) for sort, x, y, row in rounds(picture) if sort == "hole"]
+    table = cell_table(picture)
+    return [lot_from(first, STRAIGHT_STEPS, table, False) for first in firsts]

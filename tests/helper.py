@@ -1,0 +1,205 @@
+"""What several tests need: drawings, pictures, and the document's words told slowly, without the program."""
+
+import time
+from contextlib import contextmanager
+
+from rimsteps.errors import NoCell, NoPicture, NoRound, NoRounds, NoRow, NoText, TooWide, Twice
+
+ALL_CLASSES = (NoPicture, NoRound, NoRounds, NoText, Twice, NoCell, TooWide, NoRow)
+
+# By compass: how far right and up each of the steps 0 to 7 leads.
+EAST, NORTH_EAST, NORTH, NORTH_WEST = (1, 0), (1, 1), (0, 1), (-1, 1)
+WEST, SOUTH_WEST, SOUTH, SOUTH_EAST = (-1, 0), (-1, -1), (0, -1), (1, -1)
+COMPASS = [EAST, NORTH_EAST, NORTH, NORTH_WEST, WEST, SOUTH_WEST, SOUTH, SOUTH_EAST]
+STRAIGHT = [EAST, NORTH, WEST, SOUTH]
+
+# For each way: the gap at the right, the cell ahead at the right with its step, the one straight ahead with its step.
+WAYS = [
+    (SOUTH, SOUTH_EAST, 7, EAST, 0),
+    (EAST, NORTH_EAST, 1, NORTH, 2),
+    (NORTH, NORTH_WEST, 3, WEST, 4),
+    (WEST, SOUTH_WEST, 5, SOUTH, 6),
+]
+
+
+def in_order(cells):
+    return sorted(cells, key=lambda cell: (cell[1], cell[0]))
+
+
+def drawn(*rows, x=0, y=0):
+    """The picture of a drawing whose last row is the lowest; (x, y) is its corner below at the left."""
+    height = len(rows)
+    return in_order(
+        (x + right, y + height - 1 - down)
+        for down, row in enumerate(rows)
+        for right, sign in enumerate(row)
+        if sign == "#"
+    )
+
+
+def moved(cell, move):
+    return (cell[0] + move[0], cell[1] + move[1])
+
+
+def lots(cells, moves):
+    """The greatest lots of cells in which one comes from each to each other by these moves."""
+    left = set(cells)
+    told = []
+    while left:
+        lot = set()
+        fresh = {left.pop()}
+        while fresh:
+            lot |= fresh
+            fresh = {moved(cell, move) for cell in fresh for move in moves} & left
+            left -= fresh
+        told.append(in_order(lot))
+    return sorted(told, key=lambda lot: (lot[0][1], lot[0][0]))
+
+
+def slow_pieces(picture):
+    return lots(picture, COMPASS)
+
+
+def slow_holes(picture):
+    """All gaps of the box around the picture and one further fall into lots; the one at its corner is outside."""
+    if not picture:
+        return []
+    xs = [x for x, y in picture]
+    ys = [y for x, y in picture]
+    corner = (min(xs) - 1, min(ys) - 1)
+    box = [(x, y) for x in range(corner[0], max(xs) + 2) for y in range(corner[1], max(ys) + 2)]
+    cells = set(picture)
+    gaps = [cell for cell in box if cell not in cells]
+    return [lot for lot in lots(gaps, STRAIGHT) if corner not in lot]
+
+
+def slow_edges(picture):
+    cells = set(picture)
+    return {(x, y, way) for x, y in cells for way in range(4) if moved((x, y), WAYS[way][0]) not in cells}
+
+
+def slow_behind(cells, edge):
+    """The edge behind this one, and the step to it, None for a left turn."""
+    x, y, way = edge
+    beside, right, slant, ahead, straight = WAYS[way]
+    if moved((x, y), right) in cells:
+        return moved((x, y), right) + ([3, 0, 1, 2][way],), slant
+    if moved((x, y), ahead) in cells:
+        return moved((x, y), ahead) + (way,), straight
+    return (x, y, [1, 2, 3, 0][way]), None
+
+
+def begin_edge(one):
+    sort, x, y, row = one
+    return (x, y, {"rim": 0, "hole": 2}[sort])
+
+
+def slow_walk(picture, begin):
+    """The edges from this one till it comes again, and what the walker does behind each."""
+    cells = set(picture)
+    edges, deeds, edge = [], [], begin
+    while not edges or edge != begin:
+        edges.append(edge)
+        edge, deed = slow_behind(cells, edge)
+        deeds.append(deed)
+        assert len(edges) <= 4 * len(picture), "the walk never comes back to its begin"
+    return edges, deeds
+
+
+def floor(width, height):
+    """All cells of a floor, in order."""
+    return [(x, y) for y in range(height) for x in range(width)]
+
+
+def all_pictures(width, height):
+    """Each picture within such a floor."""
+    cells = floor(width, height)
+    for number in range(2 ** len(cells)):
+        yield [cell for at, cell in enumerate(cells) if number >> at & 1]
+
+
+def some_pictures(width, height, many):
+    """So many pictures within such a floor, the same ones each time, of few cells and of many."""
+    cells = floor(width, height)
+    state = 12345
+    for number in range(many):
+        share = 1 + number % 9
+        picture = []
+        for cell in cells:
+            state = (state * 6364136223846793005 + 1442695040888963407) % 2 ** 64
+            if (state >> 33) % 10 < share:
+                picture.append(cell)
+        yield picture
+
+
+def many_small_pictures():
+    yield from all_pictures(3, 3)
+    yield from all_pictures(4, 3)
+    yield from some_pictures(5, 5, 600)
+    yield from some_pictures(9, 7, 200)
+
+
+def square_ring(size, low):
+    """The rim cells of a square, its corner below at the left (low, low)."""
+    high = low + size - 1
+    return [(x + low, y + low) for x, y in floor(size, size) if low in (x + low, y + low) or high in (x + low, y + low)]
+
+
+def slant_ring(radius):
+    """A ring of slant steps alone around (0, 0): 4 * radius cells."""
+    span = range(-radius, radius + 1)
+    return [(x, y) for y in span for x in span if abs(x) + abs(y) == radius]
+
+
+FAR = 10 ** 27
+
+
+def far_cells():
+    return [(x * FAR, y * FAR) for y in range(-5, 5) for x in range(-6, 6)]
+
+
+def chess_floor():
+    return [(x, y) for x, y in floor(16, 15) if (x + y) % 2 == 0]
+
+
+def four_rings():
+    """Four square rings one within the other, without their corners."""
+    cells = []
+    for size in (3, 7, 11, 15):
+        low = (15 - size) // 2
+        ends = (low, low + size - 1)
+        cells += [(x, y) for x, y in square_ring(size, low) if not (x in ends and y in ends)]
+    return in_order(cells)
+
+
+def four_full_rings():
+    """The same with their corners: somewhat more than 120 cells."""
+    return in_order(cell for size in (3, 7, 11, 15) for cell in square_ring(size, (15 - size) // 2))
+
+
+def great_pictures():
+    """Pictures at the bounds, by names."""
+    return {
+        "far": far_cells(),
+        "floor": floor(12, 10),
+        "row": floor(120, 1),
+        "chess": chess_floor(),
+        "slant": slant_ring(30),
+        "rings": four_rings(),
+        "full rings": four_full_rings(),
+    }
+
+
+@contextmanager
+def soon(case, seconds=2):
+    """Far more than the program needs, far less than a slow way would."""
+    begin = time.process_time()
+    yield
+    case.assertLess(time.process_time() - begin, seconds)
+
+
+def refused_at(case, deed, picture):
+    """The field at of the NoPicture with which the deed refuses the picture."""
+    with case.assertRaises(NoPicture) as caught:
+        deed(picture)
+    return caught.exception.at
