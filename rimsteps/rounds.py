@@ -18,11 +18,16 @@ def walk_from(table, begin):
     return walk
 
 
-def sort_of(walk):
-    """Of which sort the round of this walk is: a rim has more left turns than slant steps, a hole's round fewer."""
+def lefts_less_slants(walk):
+    """How many left turns more than slant steps this walk has."""
     lefts = len([step for edge, step in walk if step is None])
     slants = len([step for edge, step in walk if is_slant(step)])
-    return "rim" if lefts > slants else "hole"
+    return lefts - slants
+
+
+def sort_of(walk):
+    """Of which sort the round of this walk is: a rim has more left turns than slant steps, a hole's round fewer."""
+    return "rim" if lefts_less_slants(walk) > 0 else "hole"
 
 
 def begin_of(walk, sort):

@@ -106,6 +106,100 @@ def slow_walk(picture, begin):
     return edges, deeds
 
 
+class SlowWalker:
+    """Walks a row that is handed in, and keeps what it sees: how many steps it counts to, the cell, "cell" or "gap"."""
+
+    def __init__(self, one):
+        sort, x, y, row = one
+        self.begin = begin_edge(one)
+        self.cell, self.way = (x, y), self.begin[2]
+        self.edges, self.seen, self.lefts, self.slants, self.steps = [], [], 0, 0, 1
+        self.come()
+        for at, step in enumerate(row):
+            self.steps = at + 1
+            while step not in (WAYS[self.way][2], WAYS[self.way][4]):
+                self.turn()
+            self.go(step)
+        self.steps = len(row) + 1
+        for turn in range(4):
+            if self.way != self.begin[2] or not row:
+                self.turn()
+
+    def see(self, what, move):
+        self.seen.append((self.steps, moved(self.cell, move), what))
+
+    def come(self):
+        self.edges.append(self.cell + (self.way,))
+        self.see("cell", (0, 0))
+        self.see("gap", WAYS[self.way][0])
+
+    def turn(self):
+        self.see("gap", WAYS[self.way][3])
+        self.see("gap", WAYS[self.way][1])
+        self.lefts += 1
+        self.way = [1, 2, 3, 0][self.way]
+        self.come()
+
+    def go(self, step):
+        if step in (0, 2, 4, 6):
+            self.see("gap", WAYS[self.way][1])
+        else:
+            self.slants += 1
+        self.cell = moved(self.cell, COMPASS[step])
+        if step in (1, 3, 5, 7):
+            self.way = [3, 0, 1, 2][self.way]
+        self.come()
+
+
+def slow_refusal(one):
+    """The number at with which the round is refused, None where it isn't."""
+    sort, x, y, row = one
+    walker = SlowWalker(one)
+    for count in range(1, len(row) + 2):
+        cells = {cell for steps, cell, what in walker.seen if steps <= count and what == "cell"}
+        gaps = {cell for steps, cell, what in walker.seen if steps <= count and what == "gap"}
+        if cells & gaps:
+            return count - 1
+    begins = [(edge[1], edge[0]) for edge in walker.edges if edge[2] == walker.begin[2]]
+    turned = walker.lefts - walker.slants == {"rim": 4, "hole": -4}[sort]
+    if walker.cell != (x, y) or not turned or min(begins) != (y, x):
+        return len(row)
+    return None
+
+
+def closed_off(lot, moves):
+    """The lot, and all cells that can't be reached from outside by these moves without coming to one of the lot."""
+    xs = [x for x, y in lot]
+    ys = [y for x, y in lot]
+    corner = (min(xs) - 1, min(ys) - 1)
+    box = {(x, y) for x in range(corner[0], max(xs) + 2) for y in range(corner[1], max(ys) + 2)}
+    outside = [lot for lot in lots(box - set(lot), moves) if corner in lot][0]
+    return in_order(box - set(outside))
+
+
+def slow_within(picture, one):
+    """The cells within a round of the picture, told from its pieces and holes."""
+    sort, x, y, row = one
+    if sort == "rim":
+        return closed_off([piece for piece in slow_pieces(picture) if (x, y) in piece][0], STRAIGHT)
+    return closed_off([hole for hole in slow_holes(picture) if (x, y + 1) in hole][0], COMPASS)
+
+
+def slow_around(picture, some):
+    """For each round the index of the one in which it lies, told from the picture's pieces and holes."""
+    pieces, holes = slow_pieces(picture), slow_holes(picture)
+    told = []
+    for sort, x, y, row in some:
+        if sort == "hole":
+            lot, others = [piece for piece in pieces if (x, y) in piece], "rim"
+        else:
+            lot, others = [hole for hole in holes if (x, y - 1) in hole], "hole"
+        beside = [(one[1], one[2] + (one[0] == "hole")) for one in some]
+        found = [at for at, one in enumerate(some) if lot and one[0] == others and beside[at] in lot[0]]
+        told.append(found[0] if found else None)
+    return told
+
+
 def floor(width, height):
     """All cells of a floor, in order."""
     return [(x, y) for y in range(height) for x in range(width)]
@@ -198,8 +292,9 @@ def soon(case, seconds=2):
     case.assertLess(time.process_time() - begin, seconds)
 
 
-def refused_at(case, deed, picture):
-    """The field at of the NoPicture with which the deed refuses the picture."""
-    with case.assertRaises(NoPicture) as caught:
-        deed(picture)
+def refused_at(case, deed, thing, kind=NoPicture):
+    """The field at of the refusal of this kind with which the deed refuses the thing."""
+    with case.assertRaises(kind) as caught:
+        deed(thing)
+    case.assertIs(type(caught.exception), kind)
     return caught.exception.at
