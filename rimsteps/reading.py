@@ -36,14 +36,19 @@ def deeds_along(begin_way, row):
     return deeds + [None] * lefts
 
 
-def walk_along(begin, row):
-    """The walk from this edge on by the steps of the row, till it goes the way of the begin again."""
+def walk_by(begin, deeds):
+    """The walk from this edge on by these steps and left turns (None)."""
     walk = []
     edge = begin
-    for deed in deeds_along(begin[2], row):
+    for deed in deeds:
         walk.append((edge, deed))
         edge = edge_behind(edge, deed)
     return walk
+
+
+def walk_along(begin, row):
+    """The walk from this edge on by the steps of the row, till it goes the way of the begin again."""
+    return walk_by(begin, deeds_along(begin[2], row))
 
 
 def seen_between(edge, step):

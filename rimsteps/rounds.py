@@ -18,10 +18,16 @@ def walk_from(table, begin):
     return walk
 
 
-def lefts_less_slants(walk):
-    """How many left turns more than slant steps this walk has."""
+def lefts_and_slants(walk):
+    """How many left turns and how many slant steps this walk has."""
     lefts = len([step for edge, step in walk if step is None])
     slants = len([step for edge, step in walk if is_slant(step)])
+    return (lefts, slants)
+
+
+def lefts_less_slants(walk):
+    """How many left turns more than slant steps this walk has."""
+    lefts, slants = lefts_and_slants(walk)
     return lefts - slants
 
 

@@ -1,9 +1,13 @@
-"""What several tests need: drawings, pictures, and the document's words told slowly, without the program."""
+"""What several tests need: drawings, pictures, lists of rounds, and the document's words told slowly.
+
+What is told slowly here is told without the program.
+"""
 
 import time
 from contextlib import contextmanager
 
 from rimsteps.errors import NoCell, NoPicture, NoRound, NoRounds, NoRow, NoText, TooWide, Twice
+from rimsteps.rounds import rounds
 
 ALL_CLASSES = (NoPicture, NoRound, NoRounds, NoText, Twice, NoCell, TooWide, NoRow)
 
@@ -200,6 +204,42 @@ def slow_around(picture, some):
     return told
 
 
+def turned_cells(cells, quarters):
+    for quarter in range(quarters):
+        cells = [(-y, x) for x, y in cells]
+    return in_order(cells)
+
+
+def mirrored_cells(cells):
+    return in_order((-x, y) for x, y in cells)
+
+
+def moved_cells(cells, dx, dy):
+    return in_order((x + dx, y + dy) for x, y in cells)
+
+
+def great_cells(cells, times):
+    return in_order((times * x + right, times * y + up) for x, y in cells for right, up in floor(times, times))
+
+
+def turned_edges(edges):
+    """By a quarter: the edge below a cell becomes the one at its right."""
+    return {(-y, x, {0: 1, 1: 2, 2: 3, 3: 0}[way]) for x, y, way in edges}
+
+
+def mirrored_edges(edges):
+    """The edge at the right of a cell becomes the one at its left."""
+    return {(-x, y, {0: 0, 1: 3, 2: 2, 3: 1}[way]) for x, y, way in edges}
+
+
+def moved_edges(edges, dx, dy):
+    return {(x + dx, y + dy, way) for x, y, way in edges}
+
+
+def are_one_row_gone_round(row, other):
+    return len(row) == len(other) and (not row or any(row[at:] + row[:at] == other for at in range(len(row))))
+
+
 def floor(width, height):
     """All cells of a floor, in order."""
     return [(x, y) for y in range(height) for x in range(width)]
@@ -282,6 +322,39 @@ def great_pictures():
         "rings": four_rings(),
         "full rings": four_full_rings(),
     }
+
+
+MOST = 10 ** 30 - 1
+COMB = [(x, y) for x, y in floor(40, 5) if y == 0 or x % 2 == 0]
+
+
+def great_rounds():
+    """Rounds of 240 steps, and of somewhat fewer."""
+    side = 60
+    told = [
+        ("rim", 0, 0, (0,) * side + (2,) * side + (4,) * side + (6,) * side),
+        ("rim", MOST, -MOST, (1,) * side + (3,) * side + (5,) * side + (7,) * side),
+        ("hole", -MOST, MOST, (3,) * side + (1,) * side + (7,) * side + (5,) * side),
+        ("rim", -FAR, -FAR, (0,) * 120 + (4,) * 120),
+        ("rim", -FAR, -FAR, (1,) * 120 + (5,) * 120),
+    ]
+    return told + rounds(COMB)
+
+
+def great_lists():
+    """Lists of rounds that have 480 steps together, and those of the great pictures, by names."""
+    told = {name: rounds(picture) for name, picture in great_pictures().items()}
+    told["great ring"] = rounds(slant_ring(60))
+    square = great_rounds()[0][3]
+    told["two far apart"] = [("rim", 0, 0, square), ("rim", FAR, FAR, square)]
+    told["comb"] = rounds(COMB)
+    return told
+
+
+def far_squares():
+    """120 rims of 240 steps each, those of one row of them nearer to one another."""
+    row = great_rounds()[0][3]
+    return [("rim", x * 1000, y * FAR, row) for y in range(10) for x in range(12)]
 
 
 @contextmanager

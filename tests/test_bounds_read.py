@@ -9,33 +9,12 @@ from rimsteps.errors import NoRound, NoRounds
 from rimsteps.reader import shows
 from rimsteps.reading import ask_round, edges_of, is_round
 from rimsteps.rounds import rounds
-from tests.helper import FAR, drawn, floor, great_pictures, refused_at, slant_ring, soon
+from tests.helper import (
+    COMB, FAR, MOST, drawn, far_squares, floor, great_lists, great_pictures, great_rounds, refused_at, slant_ring,
+    soon,
+)
 
 NESTED = drawn("#####", "#...#", "#.#.#", "#...#", "#####")
-MOST = 10 ** 30 - 1
-COMB = [(x, y) for x, y in floor(40, 5) if y == 0 or x % 2 == 0]
-
-
-def great_rounds():
-    """Rounds of 240 steps, and of somewhat fewer."""
-    side = 60
-    told = [
-        ("rim", 0, 0, (0,) * side + (2,) * side + (4,) * side + (6,) * side),
-        ("rim", MOST, -MOST, (1,) * side + (3,) * side + (5,) * side + (7,) * side),
-        ("hole", -MOST, MOST, (3,) * side + (1,) * side + (7,) * side + (5,) * side),
-        ("rim", -FAR, -FAR, (0,) * 120 + (4,) * 120),
-        ("rim", -FAR, -FAR, (1,) * 120 + (5,) * 120),
-    ]
-    return told + rounds(COMB)
-
-
-def great_lists():
-    """Lists of rounds that have 480 steps together, and those of the great pictures, by names."""
-    told = {name: rounds(picture) for name, picture in great_pictures().items()}
-    told["great ring"] = rounds(slant_ring(60))
-    told["two far apart"] = [(sort, x + far, y + far, row) for far in (0, FAR) for sort, x, y, row in great_rounds()[:1]]
-    told["comb"] = rounds(COMB)
-    return told
 
 
 class Untouched(unittest.TestCase):
@@ -132,10 +111,8 @@ class Bounds(unittest.TestCase):
                 self.assertEqual(refused_at(self, picture_of, some + some[-1:], NoRounds), len(some))
 
     def test_120_rounds_of_240_steps(self):
-        some = [(sort, x * 1000, y * FAR, row) for y in range(10) for x in range(12)
-                for sort, begin_x, begin_y, row in great_rounds()[:1]]
         with soon(self):
-            self.assertEqual(around(some), [None] * 120)
+            self.assertEqual(around(far_squares()), [None] * 120)
 
     def test_the_reader(self):
         for name, picture in great_pictures().items():
@@ -144,7 +121,8 @@ class Bounds(unittest.TestCase):
                 self.assertIs(shows(picture, told), True)
                 self.assertIs(shows(picture, told[:-1]), False)
                 self.assertIs(shows(picture, told + told[-1:]), False)
-        for thing in ([("rim", 0, 0, (0, 4) * 490)], [0] * 999, [("rim", 0, 0, ())] * 199, [("hole", 0, 0, (4,) * 990)]):
+        long = [("rim", 0, 0, (0, 4) * 490)]
+        for thing in (long, [("hole", 0, 0, (4,) * 990)], [0] * 999, [("rim", 0, 0, ())] * 199):
             with soon(self):
                 self.assertIs(shows(floor(12, 10), thing), False)
 
