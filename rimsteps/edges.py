@@ -12,6 +12,12 @@ def gap_beside(edge):
     return gone(x, y, (2 * way + 6) % 8)
 
 
+def edge_facing(edge):
+    """The edge of the cell at the walker's right, on the same line, that goes the other way."""
+    x, y = gap_beside(edge)
+    return (x, y, (edge[2] + 2) % 4)
+
+
 def all_edges(picture):
     """All edges of the picture, by their cells in order, of one cell by their ways."""
     table = cell_table(picture)

@@ -56,19 +56,26 @@ def round_order(one):
     return (y, x, sort == "hole")
 
 
-def rounds(picture):
-    """The rounds of the picture, in order; or NoPicture."""
-    ask_picture(picture)
-    table = cell_table(picture)
+def rounds_along(table, edges):
+    """The rounds into which these edges, all of a picture's, fall, in order.
+
+    The table needs no other cells than those of the edges: a walker looks at cells alone that lie beside a gap.
+    """
     walked = {}
     told = []
-    for begin in all_edges(picture):
+    for begin in edges:
         if begin not in walked:
             walk = walk_from(table, begin)
             for edge, step in walk:
                 walked[edge] = True
             told.append(round_of(walk))
     return sorted(told, key=round_order)
+
+
+def rounds(picture):
+    """The rounds of the picture, in order; or NoPicture."""
+    ask_picture(picture)
+    return rounds_along(cell_table(picture), all_edges(picture))
 
 
 def holes(picture):

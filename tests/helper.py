@@ -3,8 +3,10 @@
 What is told slowly here is told without the program.
 """
 
+import itertools
 import time
 from contextlib import contextmanager
+from fractions import Fraction
 
 from rimsteps.errors import NoCell, NoPicture, NoRound, NoRounds, NoRow, NoText, TooWide, Twice
 from rimsteps.rounds import rounds
@@ -238,6 +240,78 @@ def moved_edges(edges, dx, dy):
 
 def are_one_row_gone_round(row, other):
     return len(row) == len(other) and (not row or any(row[at:] + row[:at] == other for at in range(len(row))))
+
+
+def slow_spots(one):
+    """The cells of the spots of a round: its begin, and the cell behind each step but the last."""
+    sort, x, y, row = one
+    spots = [(x, y)]
+    for step in row:
+        spots.append(moved(spots[-1], COMPASS[step]))
+    return spots[:len(row)] or spots
+
+
+def slow_square(cell, side):
+    """The square of the distance of the cell from the nearest point of the side, as a fraction."""
+    (ax, ay), (bx, by) = side
+    length = (bx - ax) ** 2 + (by - ay) ** 2
+    part = Fraction(0)
+    if length:
+        part = Fraction((cell[0] - ax) * (bx - ax) + (cell[1] - ay) * (by - ay), length)
+    part = min(max(part, Fraction(0)), Fraction(1))
+    nearest = (ax + part * (bx - ax), ay + part * (by - ay))
+    return (nearest[0] - cell[0]) ** 2 + (nearest[1] - cell[1]) ** 2
+
+
+def slow_cross(one, other):
+    """Whether the sides cross: the lines meet in one point, and it lies amid both, not at an end."""
+    (ax, ay), (bx, by) = one
+    (cx, cy), (dx, dy) = other
+    ux, uy, vx, vy = bx - ax, by - ay, dx - cx, dy - cy
+    both = ux * vy - uy * vx
+    if both == 0:
+        return False
+    first = Fraction((cx - ax) * vy - (cy - ay) * vx, both)
+    second = Fraction((cx - ax) * uy - (cy - ay) * ux, both)
+    return 0 < first < 1 and 0 < second < 1
+
+
+def slow_near(one, bound, corners):
+    spots = slow_spots(one)
+    for at, cell in enumerate(spots):
+        if at not in corners:
+            ahead = max(corner for corner in corners if corner < at)
+            behind = min([corner for corner in corners if corner > at], default=0)
+            if slow_square(cell, (spots[ahead], spots[behind])) > bound:
+                return False
+    return True
+
+
+def slow_holds(some, bound, thinning):
+    """Whether the thinning, a list of corners for each round, holds."""
+    sides = []
+    for one, corners in zip(some, thinning):
+        if not slow_near(one, bound, corners):
+            return False
+        cells = [slow_spots(one)[corner] for corner in corners]
+        sides += [(cell, cells[(at + 1) % len(cells)]) for at, cell in enumerate(cells)]
+    return not any(slow_cross(one, other) for one, other in itertools.combinations(sides, 2))
+
+
+def slow_leavable(some, bound, thinning):
+    """Each corner but 0 left out alone."""
+    told = []
+    for index, corners in enumerate(thinning):
+        for spot in corners:
+            left = [list(one) for one in thinning]
+            left[index].remove(spot)
+            if spot != 0 and slow_holds(some, bound, left):
+                told.append((index, spot))
+    return told
+
+
+def all_spots(some):
+    return [list(range(max(1, len(row)))) for sort, x, y, row in some]
 
 
 def floor(width, height):
