@@ -5,6 +5,8 @@ from rimsteps.errors import NoPicture
 MOVES = ((1, 0), (1, 1), (0, 1), (-1, 1), (-1, 0), (-1, -1), (0, -1), (1, -1))
 ALL_STEPS = (0, 1, 2, 3, 4, 5, 6, 7)
 STRAIGHT_STEPS = (0, 2, 4, 6)
+# Of a picture that is read from a drawing, or kept by a desk.
+MOST_CELLS = 120
 
 
 def cell_order(cell):

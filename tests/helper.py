@@ -3,6 +3,7 @@
 What is told slowly here is told without the program.
 """
 
+import copy
 import itertools
 import time
 from contextlib import contextmanager
@@ -445,3 +446,52 @@ def refused_at(case, deed, thing, kind=NoPicture):
         deed(thing)
     case.assertIs(type(caught.exception), kind)
     return caught.exception.at
+
+
+def lists_in(told):
+    """All lists in what is told, itself too."""
+    found = [told] if isinstance(told, list) else []
+    for part in told if isinstance(told, (list, tuple)) else ():
+        found += lists_in(part)
+    return found
+
+
+class OwnLists:
+    """Point 2 of some deeds, for tests: by words each deed and what is handed in to it."""
+
+    deeds = {}
+
+    def test_what_is_handed_in_stays_as_it_was(self):
+        for word, (deed, things) in self.deeds.items():
+            with self.subTest(word=word):
+                handed = copy.deepcopy(things)
+                deed(*handed)
+                self.assertEqual(handed, things)
+
+    def test_a_told_list_changed_changes_nothing_told_later(self):
+        for word, (deed, things) in self.deeds.items():
+            with self.subTest(word=word):
+                kept = copy.deepcopy(deed(*things))
+                for lists in lists_in(deed(*things)):
+                    lists.append("more")
+                    lists.reverse()
+                self.assertEqual(deed(*things), kept)
+
+    def test_told_lists_are_no_lists_that_were_handed_in(self):
+        for word, (deed, things) in self.deeds.items():
+            with self.subTest(word=word):
+                handed = copy.deepcopy(things)
+                told = deed(*handed)
+                kept = copy.deepcopy(told)
+                for lists in lists_in(handed):
+                    lists.clear()
+                self.assertEqual(told, kept)
+
+    def test_no_list_is_told_twice_nor_one_that_was_handed_in(self):
+        for word, (deed, things) in self.deeds.items():
+            with self.subTest(word=word):
+                handed = copy.deepcopy(things)
+                told = lists_in(deed(*handed)) + lists_in(deed(*handed))
+                found = {id(one) for one in told}
+                self.assertEqual(len(found), len(told))
+                self.assertEqual(found & {id(one) for one in lists_in(handed)}, set())

@@ -1,6 +1,5 @@
 """Points 2 and 3 of likeness, joins and thinning: nothing handed in is changed, what is told is one's own, soon."""
 
-import copy
 import unittest
 
 from rimsteps.joins import apart, common, joined, put, taken, without
@@ -10,8 +9,8 @@ from rimsteps.rounds import rounds
 from rimsteps.thin import fewest, thinned
 from rimsteps.thinlooks import do_cross, holds, is_near, leavable
 from tests.helper import (
-    FAR, MOST, all_spots, chess_floor, drawn, far_cells, far_squares, floor, great_lists, great_rounds, in_order,
-    slow_holds, slow_leavable, some_pictures, soon, square_ring,
+    FAR, MOST, OwnLists, all_spots, chess_floor, drawn, far_cells, far_squares, floor, great_lists, great_rounds,
+    in_order, slow_holds, slow_leavable, some_pictures, soon, square_ring,
 )
 
 GREAT = 1000000
@@ -41,47 +40,8 @@ DEEDS = {
 }
 
 
-def lists_in(told):
-    """All lists in what is told, itself too."""
-    found = [told] if isinstance(told, list) else []
-    for part in told if isinstance(told, (list, tuple)) else ():
-        found += lists_in(part)
-    return found
-
-
-class Untouched(unittest.TestCase):
-    def test_what_is_handed_in_stays_as_it_was(self):
-        for word, (deed, things) in DEEDS.items():
-            with self.subTest(word=word):
-                handed = copy.deepcopy(things)
-                deed(*handed)
-                self.assertEqual(handed, things)
-
-    def test_a_told_list_changed_changes_nothing_told_later(self):
-        for word, (deed, things) in DEEDS.items():
-            with self.subTest(word=word):
-                kept = copy.deepcopy(deed(*things))
-                for lists in lists_in(deed(*things)):
-                    lists.append("more")
-                    lists.reverse()
-                self.assertEqual(deed(*things), kept)
-
-    def test_told_lists_are_no_lists_that_were_handed_in(self):
-        for word, (deed, things) in DEEDS.items():
-            with self.subTest(word=word):
-                handed = copy.deepcopy(things)
-                told = deed(*handed)
-                kept = copy.deepcopy(told)
-                for lists in lists_in(handed):
-                    lists.clear()
-                self.assertEqual(told, kept)
-                self.assertEqual({id(one) for one in lists_in(told)} & {id(one) for one in lists_in(handed)}, set())
-
-    def test_no_list_is_told_twice(self):
-        for word, (deed, things) in DEEDS.items():
-            with self.subTest(word=word):
-                told = lists_in(deed(*things)) + lists_in(deed(*things))
-                self.assertEqual(len({id(one) for one in told}), len(told))
+class Untouched(OwnLists, unittest.TestCase):
+    deeds = DEEDS
 
     def test_the_empty_list_handed_in_is_not_the_one_told(self):
         empty = []
