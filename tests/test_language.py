@@ -108,6 +108,32 @@ class Language(unittest.TestCase):
                 if isinstance(node, ast.Call) and isinstance(node.func, ast.Attribute):
                     self.assertIn(node.func.attr, METHODS | own, path.name)
 
+    def test_is_and_powers(self):
+        for path, tree in trees():
+            for node in ast.walk(tree):
+                where = f"{path.name}: {getattr(node, 'lineno', 0)}"
+                if isinstance(node, ast.Compare) and any(isinstance(sign, (ast.Is, ast.IsNot)) for sign in node.ops):
+                    self.assertIn(ast.unparse(node.comparators[0]), ("None", "True", "False"), where)
+                if isinstance(node, ast.BinOp) and isinstance(node.op, ast.Pow):
+                    self.assertIsInstance(node.right, ast.Constant, where)
+
+    def test_values_at_the_top_hold_no_lists(self):
+        for path, tree in trees():
+            for node in tree.body:
+                if isinstance(node, ast.Assign):
+                    held = [other for other in ast.walk(node.value) if isinstance(other, (ast.List, ast.Dict, ast.Set))]
+                    self.assertIn(held, ([], [node.value]), f"{path.name}: {node.lineno}")
+
+    def test_no_method_of_one_class_is_a_value_of_another(self):
+        methods, values = set(), set()
+        for path, tree in trees():
+            for node in ast.walk(tree):
+                if isinstance(node, ast.ClassDef):
+                    methods |= {deed.name for deed in node.body if isinstance(deed, ast.FunctionDef)}
+                if isinstance(node, ast.Attribute) and isinstance(node.ctx, ast.Store):
+                    values.add(node.attr)
+        self.assertEqual(methods & values, set())
+
     def test_imports_are_own_and_go_one_way(self):
         draws = {}
         for path, tree in trees():
