@@ -98,35 +98,36 @@ def row_in(word):
     return row if row is not None and show_row(row) == word else None
 
 
-ROUND_READERS = (sort_in, number_in, number_in, row_in)
-PLACE_READERS = (number_in, number_in)
+READERS = {"sort": sort_in, "number": number_in, "row": row_in}
+ROUND_WORDS = ("sort", "number", "number", "row")
+PLACE_WORDS = ("number", "number")
 
 
-def things_read(text, at, readers):
-    """What is read from the words of this row of the number at, a reader for each; or NoText."""
+def things_read(text, at, forms):
+    """What is read from the words of this row of the number at, each of the form that is due there; or NoText."""
     words = text.split(" ")
     things = []
-    for place in range(min(len(words), len(readers))):
-        reader = readers[place]
+    for place in range(min(len(words), len(forms))):
+        reader = READERS[forms[place]]
         thing = reader(words[place])
         if thing is None:
             raise NoText(at, place)
         things.append(thing)
-    if len(words) != len(readers):
-        raise NoText(at, min(len(words), len(readers)))
+    if len(words) != len(forms):
+        raise NoText(at, min(len(words), len(forms)))
     return tuple(things)
 
 
 def read_place(text):
     """The two numbers in this row, the first one of a drawing; or NoText."""
-    return things_read(text, 0, PLACE_READERS)
+    return things_read(text, 0, PLACE_WORDS)
 
 
 def read_rounds(text):
     """The rounds of the text, in its order; or NoText, NoRound."""
     if text == "":
         return []
-    told = [things_read(row, at, ROUND_READERS) for at, row in enumerate(text.split("\n"))]
+    told = [things_read(row, at, ROUND_WORDS) for at, row in enumerate(text.split("\n"))]
     for one in told:
         ask_round(one)
     return told
